@@ -6,6 +6,7 @@ import (
 
 	"deponent/api"
 	"deponent/digest"
+	"deponent/parts"
 )
 
 // script is a memory that has what the test says, and tells what was reached for.
@@ -157,4 +158,32 @@ func TestLabel(t *testing.T) {
 	if got := s.Stamp(0xabcd); got != digest.Sum(want) {
 		t.Errorf("Stamp = %d, want %d", got, digest.Sum(want))
 	}
+}
+
+func TestCutLabel(t *testing.T) {
+	text := make([]byte, 48)
+	for n := range text {
+		text[n] = byte(200 + n)
+	}
+	for _, over := range []byte{0, 1} {
+		text[12] = over
+		p := parts.Of(text)
+		s, root := CutLabel(p)
+		if got := s.Label(root); !bytes.Equal(got, text[:47]) || p.Byte() != text[47] {
+			t.Errorf("CutLabel = %+v, %d", s, root)
+		}
+	}
+	text[12] = 2
+	for _, wrong := range [][]byte{text, make([]byte, 46), nil} {
+		if !givenUp(wrong) {
+			t.Errorf("a label of %v", wrong)
+		}
+	}
+}
+
+// givenUp tells whether this is no label.
+func givenUp(text []byte) (up bool) {
+	defer func() { up = recover() == parts.ErrWrong }()
+	CutLabel(parts.Of(text))
+	return false
 }

@@ -4,6 +4,7 @@ package core
 import (
 	"deponent/api"
 	"deponent/digest"
+	"deponent/parts"
 )
 
 // State of a machine but for its memory. Its numbers are words, so they wrap round as words do.
@@ -27,6 +28,18 @@ func (s State) Label(root int) []byte {
 		label = append(label, digest.Word(word)...)
 	}
 	return append(label, digest.Two(root)...)
+}
+
+// CutLabel takes a label off a witness: the state, and the root of its memory.
+func CutLabel(p *parts.Parts) (State, int) {
+	s := State{PC: p.Word(), Steps: p.Word(), Code: p.Word()}
+	over := p.Byte()
+	p.Require(over <= 1)
+	s.Over = over == 1
+	for n := range s.Registers {
+		s.Registers[n] = p.Word()
+	}
+	return s, p.Two()
 }
 
 // Stamp of the state, with this root of its memory.

@@ -6,6 +6,7 @@ import (
 	"deponent/core"
 	"deponent/digest"
 	"deponent/memory"
+	"deponent/proving"
 )
 
 // Machine runs a program.
@@ -64,10 +65,10 @@ func (m *Machine) Cell(n int) (int, api.Errno) {
 func (m *Machine) Stamp() int { return m.state.Stamp(m.cells.Root()) }
 
 // Witness of the next step (P7).
-func (m *Machine) Witness() ([]byte, api.Errno) { return nil, api.OK }
+func (m *Machine) Witness() ([]byte, api.Errno) { return proving.Witness(m.state, m.cells) }
 
 // Check tells the stamp behind a step, by its witness alone (P8).
-func Check(stamp int, witness []byte) (int, api.Errno) { return 0, api.OK }
+func Check(stamp int, witness []byte) (int, api.Errno) { return proving.Check(stamp, witness) }
 
 // Collision shows two texts with one sum (P10).
 func (m *Machine) Collision(witness []byte) ([]byte, []byte, bool) { return nil, nil, false }

@@ -1,6 +1,7 @@
 package deponent_test
 
 import (
+	"slices"
 	"testing"
 
 	"deponent/api"
@@ -51,15 +52,55 @@ func rootOf(words []int) int {
 	return deponent.Sum([]byte{1, byte(l >> 8), byte(l), byte(r >> 8), byte(r)})
 }
 
-// stampOf a state that was told.
-func stampOf(s api.State) int {
+// labelOf a state that was told.
+func labelOf(s api.State) []byte {
 	over := byte(0)
 	if s.Over {
 		over = 1
 	}
-	parts := [][]byte{bytesOf(s.PC), bytesOf(s.Steps), bytesOf(s.Code), {over}}
+	label := slices.Concat(bytesOf(s.PC), bytesOf(s.Steps), bytesOf(s.Code), []byte{over})
 	for _, word := range s.Registers {
-		parts = append(parts, bytesOf(word))
+		label = append(label, bytesOf(word)...)
 	}
-	return deponent.Sum(append(parts, []byte{byte(s.Root >> 8), byte(s.Root)})...)
+	return append(label, byte(s.Root>>8), byte(s.Root))
+}
+
+// stampOf a state that was told.
+func stampOf(s api.State) int { return deponent.Sum(labelOf(s)) }
+
+// proofOf the word of cell n: with the roots of the other halves.
+func proofOf(words []int, n int) []byte {
+	proof := bytesOf(words[n])
+	for size := 1; size < len(words); size *= 2 {
+		from := (n/size ^ 1) * size
+		other := rootOf(words[from : from+size])
+		proof = append(proof, byte(other>>8), byte(other))
+	}
+	return proof
+}
+
+// fitting is the root that a proof of cell n fits.
+func fitting(proof []byte, n int) int {
+	sum := deponent.Sum([]byte{0}, proof[:4])
+	for at := 4; at < 20; at += 2 {
+		own, other := []byte{byte(sum >> 8), byte(sum)}, proof[at:at+2]
+		if n%2 == 1 {
+			own, other = other, own
+		}
+		sum = deponent.Sum([]byte{1}, own, other)
+		n /= 2
+	}
+	return sum
+}
+
+// sameSum finds two texts of four bytes with one sum.
+func sameSum() (api.Source, api.Source) {
+	first := map[int]api.Source{}
+	for n := 0; ; n++ {
+		text := api.Source(bytesOf(n))
+		if other, ok := first[deponent.Sum(text)]; ok {
+			return other, text
+		}
+		first[deponent.Sum(text)] = text
+	}
 }

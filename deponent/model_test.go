@@ -31,7 +31,10 @@ func (m *model) step() api.Errno {
 	if m.PC >= api.Cells {
 		return api.ErrAddress
 	}
-	word := m.words[m.PC]
+	return m.perform(m.words[m.PC])
+}
+
+func (m *model) perform(word int) api.Errno {
 	op, n := word/67108864, word%131072
 	if n >= 65536 {
 		n -= 131072

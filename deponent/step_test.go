@@ -1,6 +1,7 @@
 package deponent_test
 
 import (
+	"bytes"
 	"testing"
 
 	"deponent/api"
@@ -180,19 +181,12 @@ func TestAsk(t *testing.T) { // P5
 }
 
 func TestAskOfTwoSourcesWithOneName(t *testing.T) { // P5
-	first := map[int]api.Source{}
-	for n := 0; ; n++ {
-		text := api.Source(bytesOf(n))
-		other, ok := first[deponent.Sum(text)]
-		if !ok {
-			first[deponent.Sum(text)] = text
-			continue
+	one, two := sameSum()
+	for _, sources := range [][]api.Source{{nil, one, two}, {nil, two, one}} {
+		m := at(t, in(api.Ask, 3, 1, 2, 0), deponent.Sum(one), 0, sources...)
+		if e := m.Step(); e != api.OK || !bytes.Equal(bytesOf(m.Look().Registers[3]), sources[1]) {
+			t.Errorf("P5: ASK: %+v, %d, want %v", m.Look(), e, sources[1])
 		}
-		m := at(t, in(api.Ask, 3, 1, 2, 0), deponent.Sum(text), 0, nil, text, other)
-		if e := m.Step(); e != api.OK || m.Look().Registers[3] != n {
-			t.Errorf("P5: ASK: %+v, %d, want %d", m.Look(), e, n)
-		}
-		return
 	}
 }
 

@@ -72,14 +72,32 @@ func (c *Cells) Store(n, word uint32) api.Errno {
 
 // Root is the digest of all cells.
 func (c *Cells) Root() int {
-	level := make([]int, api.Cells)
-	for n, word := range c.words {
-		level[n] = digest.Cell(word)
-	}
+	level := c.digests()
 	for len(level) > 1 {
 		level = joined(level)
 	}
 	return level[0]
+}
+
+// proof of the word of a cell that is there.
+func (c *Cells) proof(n uint32) proof {
+	made := proof{word: c.words[n]}
+	level := c.digests()
+	for up := range made.others {
+		made.others[up] = level[n^1]
+		level = joined(level)
+		n /= 2
+	}
+	return made
+}
+
+// digests of the single cells.
+func (c *Cells) digests() []int {
+	level := make([]int, api.Cells)
+	for n, word := range c.words {
+		level[n] = digest.Cell(word)
+	}
+	return level
 }
 
 // joined has a digest for every two neighbours of a level.
