@@ -37,11 +37,7 @@ func checked(stamp int, w []byte) (int, api.Errno) {
 		return 0, api.ErrWitness
 	}
 	word, rest := int(w[47])<<24|int(w[48])<<16|int(w[49])<<8|int(w[50]), w[67:]
-	b, n := m.Registers[word>>20&7], word&131071
-	if n >= 65536 {
-		n -= 131072
-	}
-	cell := wrap(b + n)
+	b, cell := m.Registers[word>>20&7], cellOf(m.State, word)
 	switch op := word >> 26; {
 	case op == api.Ask:
 		if len(rest) == 0 || rest[0] > 200 || len(rest) != 1+int(rest[0]) || sumOf(rest[1:]) != b {

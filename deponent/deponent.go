@@ -5,6 +5,7 @@ import (
 	"deponent/api"
 	"deponent/core"
 	"deponent/digest"
+	"deponent/dispute"
 	"deponent/memory"
 	"deponent/proving"
 )
@@ -71,12 +72,24 @@ func (m *Machine) Witness() ([]byte, api.Errno) { return proving.Witness(m.state
 func Check(stamp int, witness []byte) (int, api.Errno) { return proving.Check(stamp, witness) }
 
 // Collision shows two texts with one sum (P10).
-func (m *Machine) Collision(witness []byte) ([]byte, []byte, bool) { return nil, nil, false }
+func (m *Machine) Collision(witness []byte) ([]byte, []byte, bool) {
+	return proving.Collision(m.state, m.cells, witness)
+}
 
 // Settle a dispute (P11).
 func Settle(depth, first, last int, moves []api.Move, witness []byte) (api.Verdict, api.Errno) {
-	return api.Verdict{}, api.OK
+	return dispute.Settle(depth, first, last, moves, witness)
 }
 
 // Answer is the honest move (P12).
-func (m *Machine) Answer(depth int, asked []bool) (int, api.Errno) { return 0, api.OK }
+func (m *Machine) Answer(depth int, asked []bool) (int, api.Errno) {
+	steps, e := dispute.Middle(depth, asked)
+	if e != api.OK {
+		return 0, e
+	}
+	ahead := *m // m stays where it is
+	if _, e := ahead.run(steps); e != api.OK {
+		return 0, e
+	}
+	return ahead.Stamp(), api.OK
+}

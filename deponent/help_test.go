@@ -79,18 +79,32 @@ func proofOf(words []int, n int) []byte {
 	return proof
 }
 
-// fitting is the root that a proof of cell n fits.
+// cellOf is what a LOAD or STORE with this word reaches for.
+func cellOf(s api.State, word int) int {
+	n := word & 131071
+	if n >= 65536 {
+		n -= 131072
+	}
+	return (s.Registers[word>>20&7] + n) & top
+}
+
+// fitting is the root that a proof of cell n fits; of a proof that goes less far up, the digest that it comes to.
 func fitting(proof []byte, n int) int {
 	sum := deponent.Sum([]byte{0}, proof[:4])
-	for at := 4; at < 20; at += 2 {
-		own, other := []byte{byte(sum >> 8), byte(sum)}, proof[at:at+2]
-		if n%2 == 1 {
-			own, other = other, own
-		}
-		sum = deponent.Sum([]byte{1}, own, other)
+	for at := 4; at < len(proof); at += 2 {
+		sum = joined(sum, proof[at:at+2], n)
 		n /= 2
 	}
 	return sum
+}
+
+// joined is the digest of two halves, of which the one with the number n has this digest.
+func joined(sum int, other []byte, n int) int {
+	own := []byte{byte(sum >> 8), byte(sum)}
+	if n%2 == 1 {
+		own, other = other, own
+	}
+	return deponent.Sum([]byte{1}, own, other)
 }
 
 // sameSum finds two texts of four bytes with one sum.

@@ -12,26 +12,34 @@ import (
 // witnessOf the next step, worked out from what the machine tells of itself. That step must be no error.
 func witnessOf(t *testing.T, m *deponent.Machine, sources ...api.Source) []byte {
 	t.Helper()
-	s, words := m.Look(), cells(t, m)
+	words := cells(t, m)
+	return witnessFor(m.Look(), words[:], sources)
+}
+
+// witnessFor the next step of a state with these cells and sources.
+func witnessFor(s api.State, words []int, sources []api.Source) []byte {
 	w := labelOf(s)
-	if s.Over {
+	if s.Over || s.PC > 255 {
 		return w
 	}
-	w = append(w, proofOf(words[:], s.PC)...)
-	word := words[s.PC]
-	b, n := s.Registers[word>>20&7], word&131071
-	if n >= 65536 {
-		n -= 131072
-	}
-	switch word >> 26 {
-	case api.Load, api.Store:
-		return append(w, proofOf(words[:], wrap(b+n))...)
-	case api.Ask:
+	w = append(w, proofOf(words, s.PC)...)
+	return append(w, behind(s, words[s.PC], words, sources)...)
+}
+
+// behind is what a witness has behind its first proof, if that is one of this word. A source that is not there is made up, if any can be called so.
+func behind(s api.State, word int, words []int, sources []api.Source) []byte {
+	switch cell := cellOf(s, word); {
+	case (word>>26 == api.Load || word>>26 == api.Store) && cell < 256:
+		return proofOf(words, cell)
+	case word>>26 == api.Ask:
+		b := s.Registers[word>>20&7]
 		first := slices.IndexFunc(sources, func(s api.Source) bool { return sumOf(s) == b })
-		w = append(w, byte(len(sources[first])))
-		return append(w, sources[first]...)
+		if first < 0 {
+			return append([]byte{3}, tuned(make([]byte, 3), 0, b)...)
+		}
+		return append([]byte{byte(len(sources[first]))}, sources[first]...)
 	}
-	return w
+	return nil
 }
 
 // proven does the next step, and sees that it is proven ahead.

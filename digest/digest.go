@@ -34,12 +34,24 @@ func Two(sum int) []byte {
 	return []byte{byte(sum >> 8), byte(sum)}
 }
 
+// CellText is the text whose sum is the digest of a cell with this word.
+func CellText(word uint32) []byte {
+	w := Word(word)
+	return []byte{cellMark, w[0], w[1], w[2], w[3]}
+}
+
+// HalvesText is the text whose sum is the digest of what has these two for the digests of its halves.
+func HalvesText(first, second int) []byte {
+	f, s := Two(first), Two(second)
+	return []byte{halvesMark, f[0], f[1], s[0], s[1]}
+}
+
 // Cell is the digest of a cell with this word.
 func Cell(word uint32) int {
-	return Sum([]byte{cellMark}, Word(word))
+	return Sum(CellText(word))
 }
 
 // Halves is the digest of what has these two for the digests of its halves.
 func Halves(first, second int) int {
-	return Sum([]byte{halvesMark}, Two(first), Two(second))
+	return Sum(HalvesText(first, second))
 }

@@ -41,6 +41,15 @@ func TestBytes(t *testing.T) {
 	}
 }
 
+func TestTexts(t *testing.T) {
+	if l := CellText(0x01020304); !bytes.Equal(l, []byte{0, 1, 2, 3, 4}) {
+		t.Errorf("CellText = %v", l)
+	}
+	if l := HalvesText(0x0102, 0xfff0); !bytes.Equal(l, []byte{1, 1, 2, 0xff, 0xf0}) {
+		t.Errorf("HalvesText = %v", l)
+	}
+}
+
 func TestDigests(t *testing.T) {
 	if n, want := Cell(0x01020304), Sum([]byte{0, 1, 2, 3, 4}); n != want {
 		t.Errorf("Cell = %d, want %d", n, want)

@@ -33,16 +33,23 @@ func (p proof) bytes() []byte {
 	return text
 }
 
+// texts that the proof goes by, if it is one of the cell n: from that of all cells, whose sum is the root, down to the cell's. So each has the sum that the one ahead of it names.
+func (p proof) texts(n uint32) [height + 1][]byte {
+	var texts [height + 1][]byte
+	text := digest.CellText(p.word)
+	texts[height] = text
+	for up, other := range p.others {
+		first, second := digest.Sum(text), other
+		if n>>up%2 == 1 {
+			first, second = second, first
+		}
+		text = digest.HalvesText(first, second)
+		texts[height-1-up] = text
+	}
+	return texts
+}
+
 // root is what the proof fits, if it is one of the cell n.
 func (p proof) root(n uint32) int {
-	sum := digest.Cell(p.word)
-	for _, other := range p.others {
-		if n%2 == 0 {
-			sum = digest.Halves(sum, other)
-		} else {
-			sum = digest.Halves(other, sum)
-		}
-		n /= 2
-	}
-	return sum
+	return digest.Sum(p.texts(n)[0])
 }

@@ -1,7 +1,10 @@
 package memory
 
 import (
+	"bytes"
+
 	"deponent/api"
+	"deponent/digest"
 	"deponent/parts"
 )
 
@@ -10,6 +13,8 @@ type Proofs struct {
 	ground
 	parts *parts.Parts
 	root  int
+	// Texts are those that were believed for their sums, in that order: each sum was known by the texts ahead of it, or ahead of all.
+	Texts [][]byte
 }
 
 // Proven is the memory that has this root, and whose proofs come next in a witness.
@@ -43,6 +48,7 @@ func (p *Proofs) Source(name uint32) (api.Source, api.Errno) {
 	p.sources = []api.Source{p.parts.Cut(size)}
 	source, e := p.ground.Source(name)
 	p.parts.Require(e == api.OK)
+	p.Texts = append(p.Texts, bytes.Clone(source)) // what was cut off is the witness's own memory
 	return source, api.OK
 }
 
@@ -54,6 +60,8 @@ func (p *Proofs) Root() int {
 // cut takes the next proof off, which must be one of the cell n.
 func (p *Proofs) cut(n uint32) proof {
 	next := cutProof(p.parts)
-	p.parts.Require(next.root(n) == p.root)
+	texts := next.texts(n)
+	p.parts.Require(digest.Sum(texts[0]) == p.root)
+	p.Texts = append(p.Texts, texts[:]...)
 	return next
 }

@@ -205,3 +205,41 @@ func TestRecordOfWhatIsNotThere(t *testing.T) {
 		t.Errorf("proofs of nothing: %v", record.Shown)
 	}
 }
+
+// names tells whether a text of two halves has this digest among them.
+func names(text []byte, sum int) bool {
+	two := digest.Two(sum)
+	return bytes.Equal(text[1:3], two) || bytes.Equal(text[3:5], two)
+}
+
+func TestTextsOfAProof(t *testing.T) {
+	words := filled()
+	cells := made(t, words)
+	for n := range words {
+		texts := cells.proof(uint32(n)).texts(uint32(n))
+		if digest.Sum(texts[0]) != cells.Root() || !bytes.Equal(texts[height], digest.CellText(uint32(words[n]))) {
+			t.Fatalf("the texts of cell %d: %v", n, texts)
+		}
+		for down := range height {
+			if !names(texts[down], digest.Sum(texts[down+1])) {
+				t.Fatalf("the texts of cell %d: text %d does not name the next one: %v", n, down, texts)
+			}
+		}
+	}
+}
+
+func TestProofsKeepTheTextsThatWereBelieved(t *testing.T) {
+	words := filled()
+	cells := made(t, words)
+	witness := slices.Concat(rightProof(words, 5), rightProof(words, 6), []byte("\x03abc"))
+	proofs := Proven(cells.Root(), parts.Of(witness))
+	proofs.Load(5)
+	proofs.Store(6, uint32(words[6]))
+	proofs.Source(uint32(digest.Sum([]byte("abc"))))
+	clear(witness)
+	five, six := cells.proof(5).texts(5), cells.proof(6).texts(6)
+	want := slices.Concat(five[:], six[:], [][]byte{[]byte("abc")})
+	if !slices.EqualFunc(proofs.Texts, want, bytes.Equal) {
+		t.Errorf("Texts = %v, want %v", proofs.Texts, want)
+	}
+}
